@@ -1,0 +1,1 @@
+"""Tautcord: a cord with beads, its tones, and the cord found back."""
