@@ -24,6 +24,15 @@ WORDS = re.compile(r"\b(type|typing|typing_extensions|enum|Enum|IntEnum|StrEnum|
                    r"|namedtuple|NamedTuple|TypedDict|TYPE_CHECKING|abstractmethod)\b|dataclass|overload|contextmanager")
 
 
+METHODS = """append clear copy count endswith extend find get index insert isalnum isalpha isdigit islower isspace isupper
+items join keys ljust lower lstrip partition pop remove replace reverse rfind rjust rpartition rsplit rstrip setdefault
+split splitlines startswith strip update upper values zfill bit_length""".split()
+
+UNUSED = """register mro elements open input version_info with_traceback add_note format format_map attrgetter breakpoint
+builtins compile copyright credits delattr dir eval exec exit gc getattr globals hasattr help id importlib license locals
+methodcaller os quit setattr super vars chr""".split()
+
+
 def bound_names(tree):
     for node in ast.walk(tree):
         if isinstance(node, (ast.FunctionDef, ast.ClassDef)):
@@ -137,6 +146,41 @@ class TestLanguage(unittest.TestCase):
                     self.assertIn(node.id, BUILT_IN + ["print"] * (name == "__main__.py"), f"{name}:{node.lineno}")
                 if isinstance(node, ast.arg):
                     self.assertNotIn(node.arg, own, f"{name}:{node.lineno}")
+
+    def test_no_name_like_an_import_or_a_class_of_the_file(self):
+        for name, tree in self.trees.items():
+            drawn = [part.name for node in tree.body if isinstance(node, ast.ImportFrom) for part in node.names]
+            taken = drawn + [node.name for node in tree.body if isinstance(node, ast.ClassDef)]
+            for node in ast.walk(tree):
+                if isinstance(node, ast.arg):
+                    self.assertNotIn(node.arg, taken, f"{name}:{node.lineno}")
+                if isinstance(node, ast.Name) and isinstance(node.ctx, ast.Store):
+                    self.assertNotIn(node.id, taken, f"{name}:{node.lineno}")
+
+    def test_unused_names(self):
+        for place, node in self.walk():
+            if isinstance(node, ast.Name):
+                self.assertNotIn(node.id, UNUSED, place)
+
+    def test_methods_and_values(self):
+        classes = [node for place, node in self.walk() if isinstance(node, ast.ClassDef)]
+        methods = [part.name for node in classes for part in node.body if isinstance(part, ast.FunctionDef)]
+        called = [id(node.func) for place, node in self.walk() if isinstance(node, ast.Call)]
+        values = [node.attr for place, node in self.walk()
+                  if isinstance(node, ast.Attribute) and isinstance(node.ctx, ast.Store)]
+        for value in values:
+            self.assertNotIn(value, methods)
+        for place, node in self.walk():
+            if isinstance(node, ast.Attribute) and id(node) in called:
+                self.assertIn(node.attr, METHODS + methods, place)
+            elif isinstance(node, ast.Attribute):
+                self.assertIn(node.attr, values, place)
+
+    def test_powers_have_a_small_written_exponent(self):
+        for place, node in self.walk():
+            if isinstance(node, ast.BinOp) and isinstance(node.op, ast.Pow):
+                self.assertIsInstance(node.right, ast.Constant, place)
+                self.assertIn(node.right.value, range(65), place)
 
 
 if __name__ == "__main__":
