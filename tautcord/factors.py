@@ -7,9 +7,8 @@ a rest is the common part, since by residues it never has fewer figures than it 
 """
 
 from tautcord.errors import NoFraction
-from tautcord.polys import poly, scaled
+from tautcord.polys import poly, scaled, shared_bottom, whole_figures
 from tautcord.ratios import fraction, minus, over, times
-from tautcord.wholes import divisor
 
 
 def divided(one, other):
@@ -37,8 +36,8 @@ def common(one, other):
         return with_last_one(other)
     if len(other) == 0:
         return with_last_one(one)
-    whole_one = whole_figures(one)
-    whole_other = whole_figures(other)
+    whole_one = whole_figures(one, shared_bottom(one))
+    whole_other = whole_figures(other, shared_bottom(other))
     # No two numbers root * root + 1 of this row share a divisor, and only so many divisors can
     # lead astray: so one of them comes that does not, and is great enough.
     root = 2 ** 32
@@ -57,13 +56,6 @@ def with_last_one(one):
 
 def divides(part, one):
     return len(divided(one, part)[1]) == 0
-
-
-def whole_figures(one):
-    bottom = 1
-    for figure in one:
-        bottom = bottom * (figure[1] // divisor(bottom, figure[1]))
-    return [figure[0] * (bottom // figure[1]) for figure in one]
 
 
 def common_guess(one, other, root):

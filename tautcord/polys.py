@@ -1,6 +1,7 @@
 """Polynomials: lists of fractions, the figure of the power 0 first, the last one not 0."""
 
 from tautcord.ratios import minus, plus, side, times
+from tautcord.wholes import divisor
 
 
 def poly(figures):
@@ -49,3 +50,14 @@ def worth_at(one, number):
     for figure in reversed(one):
         worth = plus(times(worth, number), figure)
     return worth
+
+
+def shared_bottom(figures):
+    bottom = 1
+    for figure in figures:
+        bottom = bottom * (figure[1] // divisor(bottom, figure[1]))
+    return bottom
+
+
+def whole_figures(one, bottom):
+    return [figure[0] * (bottom // figure[1]) for figure in one]
