@@ -5,7 +5,7 @@ many times. So nothing is brought to lowest terms on the way, where it would hav
 each product, but once at the end.
 """
 
-from tautcord.polys import poly, shared_bottom, whole_figures
+from tautcord.polys import poly, shared_bottom, whole_figures, whole_times
 from tautcord.ratios import fraction
 
 
@@ -38,16 +38,6 @@ def part_beside(table, place, other):
     if other < 0 or other == len(table) or len(table[other][place]) == 0:
         return []
     return table[place][other]
-
-
-def whole_times(one, other):
-    if len(one) == 0 or len(other) == 0:
-        return []
-    product = [0] * (len(one) + len(other) - 1)
-    for power, figure in enumerate(one):
-        for further, factor in enumerate(other):
-            product[power + further] = product[power + further] + figure * factor
-    return product
 
 
 def whole_minus(one, other):

@@ -1,7 +1,6 @@
 """Signs and turns of a row of fractions, and by them how many worths of a cord lie below a number."""
 
-from tautcord.ratios import side
-from tautcord.walks import walked
+from tautcord.ratios import side, times
 
 
 def signs(row):
@@ -26,8 +25,17 @@ def up_to(cord, end, t):
 
 
 def row_at(cord, end, t):
-    steps = walked(cord, t)
-    heights = [step[0] for step in steps[:-1]]
-    if end == "held":
-        return heights + [steps[-1][0]]
-    return heights + [steps[-1][1]]
+    # Only the sides of the row are asked for. So the walk is kept in whole numbers, height and lean
+    # as many times each, and never brought to lowest terms, which would take most of the time.
+    gaps = cord.gaps()
+    height = gaps[0][0]
+    lean = gaps[0][1]
+    row = []
+    for weight, gap in zip(cord.weights(), gaps[1:]):
+        row.append((height, 1))
+        pull = times(t, weight)
+        lean = pull[1] * lean - pull[0] * height
+        height = gap[1] * pull[1] * height + gap[0] * lean
+        lean = gap[1] * lean
+    row.append((height if end == "held" else lean, 1))
+    return row

@@ -61,3 +61,13 @@ def shared_bottom(figures):
 
 def whole_figures(one, bottom):
     return [figure[0] * (bottom // figure[1]) for figure in one]
+
+
+def whole_times(one, other):
+    if len(one) == 0 or len(other) == 0:
+        return []
+    product = [0] * (len(one) + len(other) - 1)
+    for power, figure in enumerate(one):
+        for further, factor in enumerate(other):
+            product[power + further] = product[power + further] + figure * factor
+    return product

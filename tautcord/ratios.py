@@ -60,3 +60,13 @@ def side(one):
     if one[0] < 0:
         return -1
     return 0
+
+
+def is_rising(row):
+    # Begun at 0: the first one has to be above it.
+    last = (0, 1)
+    for one in row:
+        if not is_under(last, one):
+            return False
+        last = one
+    return True
